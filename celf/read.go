@@ -1,7 +1,6 @@
 package celf
 
 import (
-	"slices"
 	"strings"
 
 	"curtilage/api"
@@ -75,7 +74,7 @@ func (r *reader) object() api.Object {
 
 func segment(r *reader) api.Segment {
 	s := api.Segment{At: r.full(), Size: r.full(), Flags: r.byte()}
-	s.Bytes = slices.Clone(r.take(int(r.full())))
+	s.Bytes = append(s.Bytes, r.take(int(r.full()))...)
 	return s
 }
 
