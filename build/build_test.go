@@ -1,7 +1,6 @@
 package build
 
 import (
-	"errors"
 	"math/rand"
 	"reflect"
 	"slices"
@@ -150,14 +149,6 @@ func TestK2Long(t *testing.T) {
 	}
 	if _, line, e := Source("foo" + long); line != 0 || e != api.ErrLong {
 		t.Error(line, e)
-	}
-}
-
-func TestK2LineErrorsAreAsked(t *testing.T) {
-	var wrong lineError
-	err := error(lineError{line: 3, what: api.ErrAsm})
-	if !errors.As(err, &wrong) || wrong.line != 3 || !errors.Is(err, api.ErrAsm) || err.Error() != "line 3: curtilage: error 50" {
-		t.Error(err)
 	}
 }
 

@@ -84,7 +84,7 @@ func TestU3Close(t *testing.T) {
 
 func TestNothingIsShared(t *testing.T) {
 	s := state(slices.Grow([]int{1, 0}, 9), slices.Grow([]int{0, 3}, 9))
-	before := s.copied()
+	before := state(slices.Clone(s.Loaded), slices.Clone(s.Open))
 	next, begin, _ := Open(sample(), s, "c")
 	for _, l := range [][]int{next.Loaded, next.Open} {
 		clear(l)

@@ -25,6 +25,20 @@ func typed(c api.Cap, typ int) api.Cap {
 	return c
 }
 
+// opened is c without its Type.
+func opened(c api.Cap) api.Cap { return typed(c, -1) }
+
+// rises tells whether each of l comes behind the one ahead of it.
+func rises(l []api.Cap) bool {
+	for i := 1; i < len(l); i++ {
+		a, b := l[i-1], l[i]
+		if slices.Compare([]uint64{a.Base, a.Top, a.At, uint64(a.Perms), uint64(a.Type + 1)}, []uint64{b.Base, b.Top, b.At, uint64(b.Perms), uint64(b.Type + 1)}) >= 0 {
+			return false
+		}
+	}
+	return true
+}
+
 func without(c api.Cap) api.Cap {
 	c.Tag = false
 	return c
@@ -115,13 +129,13 @@ func TestI1Keys(t *testing.T) {
 		"that stands elsewhere": {api.Cap{Base: 3, Top: 4, At: 77, Perms: 64, Type: -1, Tag: true}, true}, "of no bytes": {part(3, 3, 255), false}, "of nearly all": {part(0, top, 32), true},
 	} {
 		m := machine(t, pc, sealed, x.key)
-		if g := Of(m); slices.Contains(g, open(sealed)) != x.opens {
+		if g := Of(m); slices.Contains(g, opened(sealed)) != x.opens {
 			t.Errorf("a key %s: %+v", what, g)
 		}
 	}
 	m := machine(t, pc, part(3, 4, api.MayUnseal), sealed)
 	store(t, m, 128, part(9, 9, 9))
-	want(t, "what is opened has not all of a granule", m, part(0, 4, 4), part(3, 4, 64), open(sealed), sealed)
+	want(t, "what is opened has not all of a granule", m, part(0, 4, 4), part(3, 4, 64), opened(sealed), sealed)
 	m.Regs[2] = typed(part(128, 160, 9), 3)
 	want(t, "what is opened is loaded from", m, part(0, 4, 4), part(3, 4, 64), part(9, 9, 9), part(128, 160, 9), typed(part(128, 160, 9), 3))
 }
@@ -141,18 +155,18 @@ func TestI1Pairs(t *testing.T) {
 		opens bool
 	}{
 		"a pair": {code, data, true}, "turned round": {data, code, true}, "two codes": {code, typed(part(300, 400, invoke|run), 5), false}, "two of data": {typed(part(100, 200, invoke), 5), data, false},
-		"other types": {code, typed(open(data), 6), false}, "code that may not be invoked": {typed(part(100, 200, run|1), 5), data, false}, "data that may not be invoked": {code, typed(part(300, 400, 1), 5), false},
-		"one not sealed": {code, open(data), false}, "one without Tag": {without(code), data, false}, "type 0": {typed(open(code), 0), typed(open(data), 0), true},
+		"other types": {code, typed(opened(data), 6), false}, "code that may not be invoked": {typed(part(100, 200, run|1), 5), data, false}, "data that may not be invoked": {code, typed(part(300, 400, 1), 5), false},
+		"one not sealed": {code, opened(data), false}, "one without Tag": {without(code), data, false}, "type 0": {typed(opened(code), 0), typed(opened(data), 0), true},
 	} {
 		m := machine(t, part(0, 4, 4), x.a, x.b)
 		g := Of(m)
-		if slices.Contains(g, open(x.a)) && x.a.Type >= 0 != x.opens || x.opens && !slices.Contains(g, open(x.b)) || !x.opens && len(g) > 3 {
+		if slices.Contains(g, opened(x.a)) && x.a.Type >= 0 != x.opens || x.opens && !slices.Contains(g, opened(x.b)) || !x.opens && len(g) > 3 {
 			t.Errorf("%s: %+v", what, g)
 		}
 	}
 	other, third := typed(part(500, 600, invoke|run), 5), typed(part(700, 800, run), 5)
 	want(t, "more than two", machine(t, part(0, 4, 4), code, other, third, data),
-		part(0, 4, 4), open(code), code, open(data), data, open(other), other, third)
+		part(0, 4, 4), opened(code), code, opened(data), data, opened(other), other, third)
 }
 
 func TestI1Examples(t *testing.T) {
@@ -273,7 +287,7 @@ func slow(m *cpu.Machine) map[api.Cap]bool {
 				key := d.Type < 0 && d.Perms&96 != 0 && d.Base <= uint64(c.Type) && uint64(c.Type) < d.Top
 				pair := c.Type == d.Type && c.Perms&d.Perms&128 != 0 && (c.Perms^d.Perms)&4 != 0
 				if c.Type >= 0 && (key || pair) {
-					l = append(l, open(c))
+					l = append(l, opened(c))
 				}
 			}
 		}
@@ -290,7 +304,7 @@ func TestI1ByChance(t *testing.T) {
 	for range 600 {
 		m := anyMachine(t, r)
 		g, has := Of(m), slow(m)
-		if len(g) != len(has) || !slices.IsSortedFunc(g, compare) {
+		if len(g) != len(has) || !rises(g) {
 			t.Fatal(g, has)
 		}
 		for _, c := range g {
