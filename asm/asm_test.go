@@ -93,6 +93,7 @@ func TestE2Program(t *testing.T) {
 		{[]string{"add:", "c1:", "_9Zz:", "beq c1, c2, add", "cjal c1, c1", "cjal c1, _9Zz"}, "beq c1, c2, 0|cjal c1, -4|cjal c1, -8|"},
 		{[]string{"cjal c0, 16", "beq c0, c0, -2"}, "cjal c0, 16|beq c0, c0, -2|"},
 		{[]string{"x:;y:", "cjal c0, x"}, "cjal c0, 0|"},
+		{[]string{"aZ0:", "Az9:", "zAa_09:", "_:", "beq c0, c0, aZ0", "cjal c0, Az9", "cjal c0, zAa_09", "cjal c0, _"}, "beq c0, c0, 0|cjal c0, -4|cjal c0, -8|cjal c0, -12|"},
 	} {
 		if g := program(t, x.lines...); g != x.want {
 			t.Errorf("%d: %s, not %s", i, g, x.want)
@@ -113,6 +114,7 @@ func TestE2Errors(t *testing.T) {
 		{"x: ecall", 1, api.ErrAsm}, {"\tecall", 1, api.ErrAsm}, {"ecall\r\n", 1, api.ErrAsm}, {"addi c1, c0, x\nx:", 1, api.ErrAsm}, {"lui c1, x\nx:", 1, api.ErrAsm},
 		{"beq c1, c0, -0", 1, api.ErrAsm}, {"beq c1, c0, 1", 1, api.ErrAsm}, {"cjal c0,x\nx:", 1, api.ErrAsm}, {"cjal x\nx:", 1, api.ErrAsm}, {"cjal c0, x y\nx:", 1, api.ErrAsm},
 		{"beq c1, c32, x\nx:", 1, api.ErrAsm}, {"beq c1, c32, y", 1, api.ErrAsm}, {"beq c1, y", 1, api.ErrAsm}, {"# x", 1, api.ErrAsm}, {"ä:", 1, api.ErrAsm},
+		{"0:", 1, api.ErrAsm}, {"9:", 1, api.ErrAsm}, {"a@:", 1, api.ErrAsm}, {"a[:", 1, api.ErrAsm}, {"a`:", 1, api.ErrAsm}, {"a{:", 1, api.ErrAsm}, {"a/:", 1, api.ErrAsm}, {"a-b:", 1, api.ErrAsm},
 		{"x:\nx:", 2, api.ErrLabel}, {"x:\necall\n\nx:\nx:", 4, api.ErrLabel}, {"cjal c0, y", 1, api.ErrLabel}, {"ecall\nbne c1, c0, X\nx:", 2, api.ErrLabel},
 		{"cjal c0, y\nfoo", 1, api.ErrLabel}, {"foo\ncjal c0, y", 1, api.ErrAsm}, {"cjal c0, y\nfoo\ny:", 2, api.ErrAsm}, {"cjal c0, x\nfoo\nx:\nx:", 2, api.ErrAsm},
 		{"x:\ncjal c0, x\nx:\nfoo", 3, api.ErrLabel},

@@ -128,6 +128,7 @@ func TestK2WrongLines(t *testing.T) {
 		{"code 0\nfoo\nend", 2, api.ErrAsm}, {"code 0", 1, api.ErrLine}, {"slot 0 f", 1, api.ErrLine}, {"", 0, api.ErrName}, {"name a b\nfoo", 1, api.ErrLine}, {"name a!", 0, api.ErrName},
 		{"\ncode 0\nx:\n\nx:\nend", 5, api.ErrLabel}, {"code 0\ncjal c0, y\nend", 2, api.ErrLabel}, {"code 0\n# x\nend", 2, api.ErrAsm}, {"code 0\nfoo", 1, api.ErrLine}, {"code 0\nfoo\nend\nbar", 2, api.ErrAsm},
 		{"foo\ncode 0\nfoo\nend", 1, api.ErrLine}, {"code 0\nend\ncode 0\nend ;", 3, api.ErrLine}, {"code 0\ncode 0\nend", 2, api.ErrAsm}, {"code 0\necall\nend\nend", 4, api.ErrLine},
+		{"name a\ndata 999999 1 1 -", 0, api.ErrSegment}, {"name a\ndata 0 1 999999 -", 0, api.ErrSegment}, {"name a\ndata 1000000 1 1 -", 2, api.ErrLine}, {"name a\ncode 999999\nend", 0, api.ErrSegment},
 		{"init f\ndef func f 0 4 outer all", 1, api.ErrLine}, {"code 0\nend", 0, api.ErrName}, {"name a\ncode 0\nend", 0, api.ErrSegment}, {"name a\nneeds a", 0, api.ErrName}, {"name a\ndata 0 1 2 0000", 0, api.ErrSegment},
 		{"name a\nuse func f local", 0, api.ErrSymbol}, {"name a\ndef var f 0 4 outer all", 0, api.ErrSymbol}, {"name a\nuse func f outer\ninit f", 0, api.ErrList}, {"name a\nuse func f outer\nslot 0 f", 0, api.ErrReloc},
 		{"name a" + strings.Repeat("\nneeds b", 9), 0, api.ErrName}, {"name a\nneeds 1\nneeds 2\nneeds 3\nneeds 4\nneeds 5\nneeds 6\nneeds 7\nneeds 8\nneeds 9", 0, api.ErrMany},

@@ -222,6 +222,10 @@ func TestJ2Segment(t *testing.T) {
 		{"no page", set(func(s *api.Segment) { s.At = 1025 }), api.ErrSegment}, {"half a page", set(func(s *api.Segment) { s.At = 1152 }), api.ErrSegment},
 		{"right behind", set(func(s *api.Segment) { s.At = 768 }), api.OK}, {"in the one ahead", set(func(s *api.Segment) { s.At = 512 }), api.ErrSegment}, {"ahead", set(func(s *api.Segment) { s.At = 0 }), api.ErrSegment},
 		{"in the page that the one ahead ends in", func(o *api.Object) { o.Segments[1].At, o.Relocs = 256, nil }, api.ErrSegment},
+		{"at the one ahead, of one byte", func(o *api.Object) { o.Segments = append(o.Segments, api.Segment{At: 1024, Size: 1, Flags: 1}) }, api.ErrSegment},
+		{"in the page of one byte", func(o *api.Object) {
+			o.Segments = append(o.Segments, api.Segment{At: 1280, Size: 1, Flags: 1}, api.Segment{At: 1280, Size: 1, Flags: 1})
+		}, api.ErrSegment},
 		{"size 0", set(func(s *api.Segment) { s.Size, s.Bytes = 0, nil }), api.ErrSegment}, {"size 2048", set(func(s *api.Segment) { s.Size = 2048 }), api.OK}, {"size 2049", set(func(s *api.Segment) { s.Size = 2049 }), api.ErrSegment},
 		{"end 16384", set(func(s *api.Segment) { s.At, s.Size = 16128, 256 }), api.OK}, {"end 16385", set(func(s *api.Segment) { s.At, s.Size = 16128, 257 }), api.ErrSegment},
 		{"at 16384", set(func(s *api.Segment) { s.At = 16384 }), api.ErrSegment}, {"round at 2^64", set(func(s *api.Segment) { s.At, s.Size = top-255, 256 }), api.ErrSegment},
@@ -251,7 +255,7 @@ func TestJ2Symbol(t *testing.T) {
 		{"round", f(func(s *api.Symbol) { s.Size = top - 2 }), api.ErrSymbol},
 		{"data in code", d(func(s *api.Symbol) { s.At = 8 }), api.ErrSymbol}, {"a function in data", f(func(s *api.Symbol) { s.At = 512 }), api.ErrSymbol}, {"a function in what is read", f(func(s *api.Symbol) { s.At, s.Size = 1024, 1 }), api.ErrSymbol},
 		{"data in what is read", d(func(s *api.Symbol) { s.At, s.Size = 1024, 1 }), api.OK},
-		{"a crooked function", f(func(s *api.Symbol) { s.At = 6 }), api.ErrSymbol}, {"a function of no bytes", f(func(s *api.Symbol) { s.Size = 0 }), api.ErrSymbol}, {"data of no bytes", d(func(s *api.Symbol) { s.Size = 0 }), api.OK},
+		{"a crooked function", f(func(s *api.Symbol) { s.At = 6 }), api.ErrSymbol}, {"a function of no bytes", f(func(s *api.Symbol) { s.Size = 0 }), api.ErrSymbol}, {"a function of one byte", f(func(s *api.Symbol) { s.Size = 1 }), api.OK}, {"data of no bytes", d(func(s *api.Symbol) { s.Size = 0 }), api.OK},
 		{"data of no bytes at the end", d(func(s *api.Symbol) { s.At, s.Size = 768, 0 }), api.OK}, {"data of no bytes behind", d(func(s *api.Symbol) { s.At, s.Size = 769, 0 }), api.ErrSymbol},
 		{"at, not defined", u(func(s *api.Symbol) { s.At = 4 }), api.ErrSymbol}, {"size, not defined", u(func(s *api.Symbol) { s.Size = 4 }), api.ErrSymbol},
 		{"local, not defined", u(func(s *api.Symbol) { s.Bind = api.BindLocal }), api.ErrSymbol}, {"own, not defined", u(func(s *api.Symbol) { s.Seen = api.SeenOwn }), api.ErrSymbol},

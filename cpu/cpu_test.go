@@ -381,6 +381,10 @@ func TestG3Invoke(t *testing.T) {
 	same(t, "PC", m.PC, at(part(512, 600, 141), 520))
 	same(t, "c31", m.Regs[31], part(700, 800, 155))
 	same(t, "c1 stays", m.Regs[1], at(code, 520))
+	m = machine(t, "cinvoke c1, c2")
+	m.Regs[1], m.Regs[2] = typed(code, 0), typed(data, 0)
+	m.steps(t, 1)
+	same(t, "PC, of type 0", m.PC, part(512, 600, 141))
 	perms := func(c api.Cap, n int) api.Cap {
 		c.Perms = n
 		return c

@@ -110,7 +110,7 @@ func TestU4Scope(t *testing.T) {
 	for i, x := range []struct {
 		open, want []int
 	}{
-		{[]int{0}, []int{0, 1}}, {[]int{0, 2}, []int{0, 1, 2, 3}}, {[]int{0, 3, 2, 3}, []int{0, 1, 3, 2}}, {[]int{2, 0}, []int{2, 1, 3, 0}}, {[]int{3, 3}, []int{3}}, {nil, nil}, {[]int{-1, 99, 3}, []int{3}},
+		{[]int{0}, []int{0, 1}}, {[]int{0, 2}, []int{0, 1, 2, 3}}, {[]int{0, 3, 2, 3}, []int{0, 1, 3, 2}}, {[]int{2, 0}, []int{2, 1, 3, 0}}, {[]int{3, 3}, []int{3}}, {nil, nil}, {[]int{-1, 99, 7, 3}, []int{3}},
 	} {
 		if g := Scope(sample(), State{Open: x.open}); !slices.Equal(g, x.want) {
 			t.Errorf("%d: %v", i, g)

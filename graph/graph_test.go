@@ -74,7 +74,7 @@ func TestM2BeginAndEnd(t *testing.T) {
 			t.Errorf("%d: ends %v, from behind", i, g)
 		}
 	}
-	odd := []int{-1, 5, 0, math.MinInt, math.MaxInt, 0}
+	odd := []int{-1, 1, 5, 0, math.MinInt, math.MaxInt, 0}
 	if g := Begin(objects("a"), odd); !slices.Equal(g, []int{0}) {
 		t.Error(g)
 	}
