@@ -103,6 +103,9 @@ func TestQ2Unmap(t *testing.T) {
 	if e := Unmap(m, object(), 1024); e != api.OK {
 		t.Error(e)
 	}
+	if e := Map(m, o, 65531*256); e != api.OK || Unmap(m, o, 65531*256) != api.OK || all(m) != before {
+		t.Error("up to the last page", e, m.Pages())
+	}
 }
 
 func TestQ2Errors(t *testing.T) {

@@ -227,6 +227,9 @@ func TestT3Authority(t *testing.T) {
 			t.Errorf("%d: %+v", obj, g)
 		}
 	}
+	if g := Authority(loaded(t, files(t, bare), "a", nil, nil), 0); !slices.Equal(g, []api.Cap{part(4096, 4100, 4096, 13)}) {
+		t.Errorf("%+v", g)
+	}
 	if Authority(Image{Order: []int{0}}, 0) != nil {
 		t.Error("of nothing")
 	}

@@ -180,6 +180,25 @@ func TestI1Examples(t *testing.T) {
 	want(t, "a key", m, part(0, 64, 64), pc, part(7, 8, 9), part(10, 20, 1), typed(part(10, 20, 1), 3), part(128, 160, 9))
 }
 
+func TestI1AsMuchAsThereCanBe(t *testing.T) {
+	mem, _ := tagmem.New(256)
+	if e := mem.Map(0, 256); e != api.OK {
+		t.Fatal(e)
+	}
+	m := cpu.New(mem, part(0, 4, 4))
+	for i := range uint64(31) {
+		m.Regs[i+1] = typed(part(100000+i, 200000, 1), int(i))
+	}
+	for at := uint64(0); at < 65536; at += 32 {
+		store(t, m, at, typed(part(at, 70000, 1), int(at/32%64)))
+	}
+	store(t, m, 0, part(0, 64, api.MayUnseal))
+	m.Regs[31] = part(0, 65536, 9)
+	if g := Of(m); len(g) != 1+1+2*30+1+2*2047 {
+		t.Error(len(g))
+	}
+}
+
 func TestI2Over(t *testing.T) {
 	l := []api.Cap{part(10, 20, 7), part(100, 200, 1), typed(part(0, 50, 255), 9), without(part(0, 1000, 255))}
 	for i, x := range []struct {
@@ -187,7 +206,7 @@ func TestI2Over(t *testing.T) {
 		over bool
 	}{
 		{part(10, 20, 7), true}, {part(12, 13, 3), true}, {part(10, 21, 7), false}, {part(10, 20, 15), false}, {part(150, 160, 1), true}, {part(15, 150, 1), false},
-		{without(part(0, 9999, 255)), true}, {cap.Int(5), true}, {typed(part(12, 13, 3), 4), true}, {typed(part(0, 10, 1), 9), true}, {typed(part(0, 10, 1), 8), false},
+		{without(part(0, 9999, 255)), true}, {cap.Int(5), true}, {typed(part(12, 13, 3), 4), true}, {typed(part(12, 13, 3), 0), true}, {typed(part(12, 13, 8), 0), false}, {typed(part(0, 10, 1), 9), true}, {typed(part(0, 10, 1), 8), false},
 		{part(0, 10, 1), false}, {part(999, 999, 1), true}, {part(999, 999, 64), false}, {typed(part(999, 999, 64), 9), true},
 	} {
 		if g := Over(l, x.c); g != x.over {

@@ -56,13 +56,30 @@ func (s *search) visit(c api.Cap) {
 	if c.Type < 0 {
 		s.load(c)
 		s.unlock(c)
-	} else {
-		s.sealed = append(s.sealed, c)
-		s.pair(c)
+		return
 	}
-	for _, x := range s.sealed {
-		if s.opens(x) {
-			s.add(open(x))
+	s.sealed = append(s.sealed, c)
+	s.pair(c)
+	s.unseal(c)
+}
+
+// unseal adds open of c, if what was found opens that.
+func (s *search) unseal(c api.Cap) {
+	l := s.locks[c.Type]
+	if l.key || l.code && l.data && c.Perms&api.MayInvoke != 0 {
+		s.add(open(c))
+	}
+}
+
+// note notes what opens a type, and, if that is news, opens what was found of it.
+func (s *search) note(typ int, l lock) {
+	if s.locks[typ] == l {
+		return
+	}
+	s.locks[typ] = l
+	for _, c := range s.sealed {
+		if c.Type == typ {
+			s.unseal(c)
 		}
 	}
 }
@@ -91,7 +108,7 @@ func (s *search) unlock(c api.Cap) {
 	for typ := c.Base; typ < min(c.Top, api.MaxTypes); typ++ {
 		l := s.locks[int(typ)]
 		l.key = true
-		s.locks[int(typ)] = l
+		s.note(int(typ), l)
 	}
 }
 
@@ -106,11 +123,5 @@ func (s *search) pair(c api.Cap) {
 	} else {
 		l.data = true
 	}
-	s.locks[c.Type] = l
-}
-
-// opens tells whether what was found opens c, which is sealed.
-func (s *search) opens(c api.Cap) bool {
-	l := s.locks[c.Type]
-	return l.key || l.code && l.data && c.Perms&api.MayInvoke != 0
+	s.note(c.Type, l)
 }

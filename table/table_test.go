@@ -110,6 +110,10 @@ func TestR4Slot(t *testing.T) {
 			t.Errorf("%d: %+v, %d", i, g, at)
 		}
 	}
+	turned := []api.Object{{Segments: []api.Segment{{At: 0, Size: 8, Flags: 5}}, Symbols: []api.Symbol{symbol2("f", api.SymFunc, 0, 8), symbol2("w", api.SymFunc, 4, 4)}}, l[0]}
+	if g, at := Slot(turned, []uint64{1024, 4096}, []int{8, 9}, api.Link{Obj: 1, Reloc: 0, To: 0, Sym: 1}); len(g) != 2 || g[0] != part(1024, 1032, 1028, 141, 8) || g[1] != part(1024, 1024, 1024, 129, 8) || at != 4128 {
+		t.Errorf("of the first object: %+v, %d", g, at)
+	}
 	for i, x := range []api.Link{{Obj: -1}, {Obj: 3}, {Obj: 0, Reloc: 2}, {Obj: 0, Reloc: -1}, {Obj: 1}} {
 		if g, at := Slot(l, bases, types, x); g != nil || at != 0 {
 			t.Error(i, g, at)
