@@ -24,20 +24,24 @@ type command struct {
 
 // read are the commands of lines, or the first line that is none, from 1 on.
 func read(lines []string) (commands []command, wrong int) {
-	inFile := false
+	belowFile := false // whether the line right above is `file`, or a line of its source
 	for i, line := range lines {
-		if line == "" || line[0] == '#' {
+		if saysNothing(line) {
+			belowFile = false // what says nothing is no line of a file either
 			continue
 		}
 		c, ok := parse(line)
-		if !ok || c.source && !inFile {
+		if !ok || c.source && !belowFile {
 			return nil, i + 1
 		}
-		inFile = c.source || c.words[0] == "file"
+		belowFile = c.source || c.words[0] == "file"
 		commands = append(commands, c)
 	}
 	return commands, 0
 }
+
+// saysNothing tells whether a line is empty or a remark.
+func saysNothing(line string) bool { return line == "" || line[0] == '#' }
 
 // parse is the command that a line is.
 func parse(line string) (c command, ok bool) {

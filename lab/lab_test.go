@@ -80,8 +80,19 @@ func TestLoads(t *testing.T) {
 	runs(t, object("name a", "code 0", "ecall", "end", "def func main 0 4 outer all")+"# between\n\nload a\nopen a\nclose a", "ok", "ok", "ok")
 }
 
-func TestARemarkSaysNothingWithinAFile(t *testing.T) {
-	runs(t, "file\n\n>name a\n# a remark\n>code 0\n>ecall\n>end\n>def func main 0 4 outer all\n\nload a", "ok")
+func TestX1SourcesStandRightBelowTheirFile(t *testing.T) {
+	for script, line := range map[string]int{
+		"file\n\n>": 3, "file\n#\n>y": 3, "file\n>x\n\n>y": 4, "file\n>x\n# r\n>y\nrun": 4, "file\n\n#\n\n>x": 5, "file\n>x\nfile\n\n>y": 5, "\n>x": 2, "file\n>x\nload a\n\n>y": 5,
+		"file\n\nrun\n>": 3, "file\n# file\n>x": 3, "file\n>x\n#>y\n>z": 4,
+	} {
+		if g, n, e := Run(script); g != "" || n != line || e != api.ErrScript {
+			t.Errorf("%q: %q, line %d, %d, not line %d", script, g, n, e, line)
+		}
+	}
+	// Within a source empty lines and remarks stand behind the mark; above a file, and below it, they part nothing.
+	runs(t, "\n# r\nfile\n>name a\n>\n># r\n>code 0\n>ecall\n>end\n>def func main 0 4 outer all\n\n# r\nfile\n>name b\n\nload a", "ok")
+	runs(t, "file\n\n# r\nfile\n>#\n>\n>name a\n")
+	runs(t, "file\n\nload a", "file 1 0 103")
 }
 
 func TestX1WrongLines(t *testing.T) {
